@@ -1,0 +1,1 @@
+"""Dipkin: rows of numbers that are alike by where their least numbers stand."""
