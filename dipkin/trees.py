@@ -62,3 +62,17 @@ def elders_of(tree, place):
     if not 0 <= place < len(tree):
         raise NoPlace(f"no such place of {len(tree)} places")
     return way_up(tree, place)
+
+
+def fences_of(tree):
+    """For each place the nearest elders ahead of it and behind it, the row's ends, -1 and its length, for none.
+
+    Between them lies the greatest stretch of which the place is the low.
+    """
+    fences = []
+    for place in range(len(tree)):
+        way = way_up(tree, place)
+        ahead = max([elder for elder in way if elder < place], default=-1)
+        behind = min([elder for elder in way if elder > place], default=len(tree))
+        fences.append((ahead, behind))
+    return fences
