@@ -10,14 +10,19 @@ def need_count(n):
         raise TooMany(f"trees have 0 to {MOST_PLACES} places")
 
 
+def running_sums(numbers):
+    """For each number the sum of it and all ahead of it."""
+    sums = []
+    total = 0
+    for number in numbers:
+        total += number
+        sums.append(total)
+    return sums
+
+
 def one_more(ends):
     """The counts of climbs one number longer: a climb goes on with any number up to its last one and 1."""
-    told = []
-    rest = 0
-    for many in reversed(ends):
-        rest += many
-        told.append(rest)
-    told.reverse()
+    told = running_sums(ends[::-1])[::-1]
     return told[:1] + told[:-1]
 
 

@@ -4,10 +4,15 @@ from dipkin.errors import NoTelling
 from dipkin.trees import MOST_PLACES, fences_of, need_tree, settle
 
 
+def distance_list(tree):
+    """The distances, of a tree of any length."""
+    return [place - ahead if ahead >= 0 else 0 for place, (ahead, behind) in enumerate(fences_of(tree))]
+
+
 def distances_of(tree):
     """For each place how far ahead the nearest earlier number not above its own stands, 0 for none."""
     need_tree(tree)
-    return tuple([place - ahead if ahead >= 0 else 0 for place, (ahead, behind) in enumerate(fences_of(tree))])
+    return tuple(distance_list(tree))
 
 
 def drops_of(tree):

@@ -76,3 +76,17 @@ def fences_of(tree):
         behind = min([elder for elder in way if elder > place], default=len(tree))
         fences.append((ahead, behind))
     return fences
+
+
+def young_of(tree):
+    """For each place the two that hang under it, the one ahead of it and the one behind it, None for none."""
+    young = [[None, None] for place in tree]
+    for place, elder in enumerate(tree):
+        if elder >= 0:
+            young[elder][1 if place > elder else 0] = place
+    return young
+
+
+def from_below(tree):
+    """The places, each one behind all those under it."""
+    return sorted(range(len(tree)), key=lambda place: len(way_up(tree, place)), reverse=True)

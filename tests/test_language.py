@@ -187,6 +187,28 @@ class Rows(unittest.TestCase):
             if isinstance(node.func, ast.Attribute):
                 self.assertIn(node.func.attr, METHODS | own, where)
 
+    def test_l18_l26_values_of_objects(self):
+        pythons = {name for kind in (str, int, list, dict, set, bytes, tuple) for name in dir(kind)}
+        methods = {part.name for _, kept in nodes(ast.ClassDef) for part in kept.body if isinstance(part, ast.FunctionDef)}
+        values = {node.attr for _, node in nodes(ast.Attribute) if isinstance(node.ctx, ast.Store)}
+        self.assertFalse(values & (methods | pythons | NO_NAMES))
+        self.assertFalse((methods - {"__init__"}) & (pythons - METHODS | NO_NAMES))
+        for path in FILES:
+            tree = parse(path)
+            called = {id(node.func) for node in ast.walk(tree) if isinstance(node, ast.Call)}
+            for node in ast.walk(tree):
+                if isinstance(node, ast.Attribute) and id(node) not in called:
+                    self.assertIn(node.attr, values, f"{path.name}:{node.lineno}")
+
+    def test_l24_sets(self):
+        for where, node in nodes((ast.Set, ast.SetComp, ast.Call)):
+            if not isinstance(node, ast.Call) or isinstance(node.func, ast.Name) and node.func.id == "set":
+                above = node.parent
+                asked = isinstance(above, ast.Compare)
+                handed = isinstance(above, ast.Call) and getattr(above.func, "id", "") in ("sorted", "len")
+                kept = isinstance(above, ast.Assign) and isinstance(above.targets[0], ast.Name)
+                self.assertTrue(asked or handed or kept, where)
+
     def test_l19_errors_are_made_on_the_spot(self):
         for where, node in nodes(ast.Raise):
             self.assertIsInstance(node.exc, (ast.Call, type(None)), where)
