@@ -21,6 +21,12 @@ def lows(row):
     return {stretch: low(row, *stretch) for stretch in stretches(len(row))}
 
 
+def partings(one, other):
+    """All stretches whose lows are unlike, the shortest first, of these the first first."""
+    here, there = lows(one), lows(other)
+    return sorted((ab for ab in here if here[ab] != there[ab]), key=lambda ab: (ab[1] - ab[0], ab))
+
+
 def tree(row):
     elders = [None] * len(row)
 

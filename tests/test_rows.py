@@ -10,8 +10,8 @@ from tests import plain
 
 def parted_plain(one, other):
     """By the words of 1.4: of all stretches whose lows are unlike the shortest, of these the first."""
-    wrong = [(b - a, a, b) for a, b in plain.stretches(len(one)) if plain.low(one, a, b) != plain.low(other, a, b)]
-    return min(wrong)[1:] if wrong else None
+    wrong = plain.partings(one, other)
+    return wrong[0] if wrong else None
 
 
 class Low(plain.Case):

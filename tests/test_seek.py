@@ -15,16 +15,10 @@ def starts_plain(row, text):
     return [at for at in range(len(text) - size + 1) if plain.tree(text[at:at + size]) == tree]
 
 
-def parting_plain(one, other):
-    """All stretches whose lows are unlike, the shortest first, of these the first."""
-    here, there = plain.lows(one), plain.lows(other)
-    return sorted((stretch for stretch in here if here[stretch] != there[stretch]), key=lambda ab: (ab[1] - ab[0], ab))
-
-
 def others_plain(row, text):
     told = []
     for at in range(len(text) - len(row) + 1):
-        wrong = parting_plain(row, text[at:at + len(row)])
+        wrong = plain.partings(row, text[at:at + len(row)])
         if wrong:
             told.append((at,) + wrong[0])
     return told
@@ -172,7 +166,7 @@ class Judge(plain.Case):
                 continue
             starts, others = starts_plain(row, text), others_plain(row, text)
             for at, (start, _, _) in enumerate(others[:3]):
-                good = parting_plain(row, text[start:start + len(row)])
+                good = plain.partings(row, text[start:start + len(row)])
                 pairs = plain.stretches(len(row)) + plain.some_pairs(len(row))
                 for a, b in pairs:
                     shown = others[:at] + [(start, a, b)] + others[at + 1:]
