@@ -50,6 +50,11 @@ def over(tree, place):
     return found
 
 
+def flat(tree):
+    """The flat numbers: how many of the places over each one stand behind it."""
+    return [len([at for at in over(tree, place) if at > place]) for place in range(len(tree))]
+
+
 def all_trees(many):
     """All trees of so many places: each has a row with each number once."""
     return sorted({tree(row) for row in itertools.permutations(range(many))})
@@ -100,6 +105,21 @@ def some_pairs(many):
     wrong = [(-1, 0), (-1, -1), (0, many), (many, many), (1, 0), (many - 1, many), (many, many - 1), (-many, -1)]
     wrong += [(far, 0) for far in FAR] + [(0, far) for far in FAR] + [(far, far) for far in FAR]
     return [(a, b) for a, b in wrong if not 0 <= a <= b < many]
+
+
+def trees_and_rows():
+    """Pairs of a tree and a row of as many numbers: of the tree, near it and far from it."""
+    source = random.Random(11)
+    trees = [tree(row) for row in some_rows() if len(row) <= 40]
+    pairs = [(one, tuple(flat(one))) for one in trees]
+    for at, one in enumerate(trees):
+        many = len(one)
+        near = [number + source.randint(-1, 1) for number in flat(one)]
+        far = [source.randint(-BIG, BIG) for _ in range(many)]
+        few = [source.randint(0, 9) for _ in range(many)]
+        kinds = [near, far, few, list(range(many)), list(range(many, 0, -1)), [-BIG] * many]
+        pairs += [(one, tuple(kind)) for kind in kinds[at % 2::2]]
+    return pairs
 
 
 def no_trees():
