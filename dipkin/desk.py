@@ -72,6 +72,12 @@ ASKED_OF_ROWS = {"kin": tell_kin, "seek": tell_starts, "holds": tell_stretches}
 ASKED_OF_TREES = {"near": tell_near, "stay": tell_stay}
 
 
+def need_words(line):
+    """Refuse a line with an empty word, whatever it speaks of: a row's text is words of the line, too."""
+    if "" in line.split(" "):
+        raise NoLine("a word of the line is empty")
+
+
 def numbers_behind(rest, many):
     """The so many numbers that are all behind a line's first word."""
     numbers = [read_number(word) for word in rest.split(" ")]
@@ -117,6 +123,7 @@ class Desk:
 
     def say(self, line):
         """The answer to a line."""
+        need_words(line)
         row = self.rows[-1]
         word, blank, rest = line.partition(" ")
         if line in ASKED:

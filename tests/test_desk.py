@@ -55,6 +55,8 @@ class Plain:
 
     def say(self, line):
         row = self.past[-1]
+        if not re.fullmatch(r"[^ ]+(?: [^ ]+)*", line):
+            raise NoLine(line)
         if line == "back":
             if len(self.past) == 1:
                 raise NoPast(line)
@@ -265,22 +267,31 @@ def wrong_lines():
 
 def wrong_texts():
     """Lines whose TEXT or TREE is not so written."""
-    rows = ["x", "01", "-0", "+1", "1  2", " 1", "1 ", " ", "  ", "1\n", "- ", " -", "--", "- -", "1 -", "9" * 61, "-" + "9" * 61,
-            " ".join(["1"] * 41), "()", "1,2", "1 x", "\n", "1\n2"]
+    rows = ["x", "k1", "01", "-0", "+1", "1\n", "--", "- -", "1 -", "9" * 61, "-" + "9" * 61, " ".join(["1"] * 41), "()",
+            "1,2", "1 x", "\n", "1\n2", "\n 1", "1 \n"]
     trees = ["x", "(", ")", ")(", "())", "(()", "1", "()\n", "--", "()-", "-()", "()" * 41, "[]", "\n"]
     lines = [f"{word} {text}" for word in ("row", "kin", "seek", "holds") for text in rows]
     return lines + [f"{word} {text}" for word in ("near", "stay") for text in trees]
 
 
+def with_empty_words(line):
+    """A line of words, with one empty word or two ahead of each of its words, or behind the last one."""
+    words = line.split(" ")
+    return [" ".join(words[:at] + [""] * many + words[at:]) for at in range(len(words) + 1) for many in (1, 2)]
+
+
 class Refused(Asked):
     ROWS = ((), (5,), (3, 1, 2), (2, 2), tuple(range(17)), tuple(range(40)))
 
+    def desk_with(self, row):
+        """A desk at which two deeds stand, the second of which put this row there."""
+        desk = Desk()
+        self.by_hand(desk, ("row 8 9", "ok"), ("row " + text_of(row), "ok"))
+        return desk
+
     def unchanged(self, error, row, line):
         """The line is refused, and behind it the desk answers as though it had not been asked."""
-        desk, other = Desk(), Desk()
-        for one in (desk, other):
-            one.say("row 8 9")
-            one.say("row " + text_of(row))
+        desk, other = self.desk_with(row), self.desk_with(row)
         self.refused(error, desk.say, line)
         for question in QUESTIONS:
             try:
@@ -310,9 +321,41 @@ class Refused(Asked):
             for line in wrong_texts():
                 self.unchanged(NoText, row, line)
 
+    def test_empty_words_in_each_kind_of_line(self):
+        kinds = ("row 1 2", "row 7", "row -", "ahead 1", "behind -2", "off ahead", "off behind", "back", "show", "tree",
+                 "low 0 2", "flat", "number", "kin 3 1 2", "kin 1", "kin -", "seek 2 1", "seek 1", "holds 1 2", "holds 1",
+                 "near ()(())", "stay ()(())")
+        for kind in kinds:
+            self.assertIsInstance(self.desk_with((3, 1, 2)).say(kind), str)
+            for line in with_empty_words(kind):
+                self.unchanged(NoLine, (3, 1, 2), line)
+
+    def test_empty_words_ahead_of_no_text(self):
+        for wrong in wrong_texts():
+            for line in with_empty_words(wrong):
+                self.refused(NoLine, self.desk_with((3, 1, 2)).say, line)
+        for line in ("row  k1", "kin x ", "seek 01  1", "holds  " + " ".join(["1"] * 41), "near  )(", "stay x "):
+            self.unchanged(NoLine, (0, 2, 1, 0, 0), line)
+
+    def test_empty_words_ahead_of_all_else(self):
+        due = (((), ("off ahead", "off behind", "low 0 0", "seek -", "holds -", "near ()", "stay ()")),
+               (tuple(range(17)), ("holds 1", "low 3 17", "seek -", "holds 1 2 3 4 5 6 7", "near -", "stay ()")),
+               (tuple(range(40)), ("ahead 1", "behind 1")))
+        for row, lines in due:
+            for line in [one for right in lines for one in with_empty_words(right)]:
+                self.unchanged(NoLine, row, line)
+        for line in with_empty_words("back"):
+            self.refused(NoLine, Desk().say, line)
+
+    def test_empty_words_by_blanks_alone(self):
+        for many in range(1, 6):
+            for line in (" " * many, "row" + " " * many, " " * many + "row", "kin" + " " * many, "seek" + " " * many,
+                         "holds" + " " * many):
+                self.unchanged(NoLine, (3, 1, 2), line)
+
     def test_no_text_ahead_of_all_else(self):
-        for line in ("near )(", "stay x", "seek ", "holds  ", "holds " + " ".join(["1"] * 41), "seek --"):
-            self.unchanged(NoLine if line == "seek " else NoText, tuple(range(17)), line)
+        for line in ("near )(", "stay x", "seek --", "holds - -", "holds " + " ".join(["1"] * 41)):
+            self.unchanged(NoText, tuple(range(17)), line)
 
     def test_as_told(self):
         for row in self.ROWS:
@@ -343,7 +386,7 @@ class Mixed(Asked):
             f"row {row}", f"ahead {number}", f"behind {number}", f"ahead {number}", f"behind {number}", "off ahead",
             "off behind", "back", "back", "show", "tree", f"low {source.randint(0, 3)} {source.randint(0, 5)}", "flat",
             "number", f"kin {row}", f"seek {row}", f"holds {row}", f"near {tree}", f"stay {tree}",
-            source.choice(wrong_lines()), source.choice(wrong_texts())))
+            source.choice(wrong_lines()), source.choice(wrong_texts()), source.choice(with_empty_words(f"row {row}"))))
 
     def test_lines_by_chance(self):
         for seed in range(12):
